@@ -1,0 +1,1 @@
+"""Tallies of a few questions each, and the one count behind them."""
