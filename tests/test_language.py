@@ -103,6 +103,31 @@ class Language(unittest.TestCase):
                 defined |= {to.id for row in tops if isinstance(row, ast.Assign) for to in row.targets}
                 self.assertLessEqual({drawn.name for drawn in node.names}, defined, where)
 
+    def test_no_two_files_draw_from_one_another(self):
+        drawn = {}
+        for name, text in sources().items():
+            rows = [node for node in ast.walk(ast.parse(text)) if isinstance(node, ast.ImportFrom)]
+            drawn[name] = {node.module.split(".")[-1] + ".py" for node in rows if node.module != "__future__"}
+        while drawn:
+            free = [name for name in drawn if not drawn[name] & set(drawn)]
+            self.assertTrue(free, drawn)
+            for name in free:
+                del drawn[name]
+
+    def test_each_name_of_a_file_is_bound_once(self):
+        for name, text in sources().items():
+            tree = ast.parse(text)
+            bound = [to.id for row in tree.body if isinstance(row, ast.Assign) for to in row.targets]
+            bound += [row.name for row in tree.body if isinstance(row, (ast.FunctionDef, ast.ClassDef))]
+            bound += [to.asname or to.name for row in tree.body if isinstance(row, ast.ImportFrom) for to in row.names]
+            self.assertEqual(len(bound), len(set(bound)), name)
+            for node in ast.walk(tree):
+                if isinstance(node, ast.FunctionDef):
+                    inner = {thing.arg for thing in ast.walk(node) if isinstance(thing, ast.arg)}
+                    inner |= {thing.id for thing in ast.walk(node)
+                              if isinstance(thing, ast.Name) and isinstance(thing.ctx, ast.Store)}
+                    self.assertFalse(inner & set(bound), f"{name}:{node.lineno}")
+
     def test_names(self):
         for where, node in nodes():
             if isinstance(node, (ast.Name, ast.arg)):
