@@ -148,6 +148,35 @@ class Language(unittest.TestCase):
             if isinstance(node, ast.Attribute):
                 self.assertIn(node.attr, known, where)
 
+    def test_no_name_is_a_method_here_and_a_value_there(self):
+        methods, values = set(), set()
+        for where, node in nodes():
+            if isinstance(node, ast.ClassDef):
+                names = [row.name for row in node.body if isinstance(row, ast.FunctionDef)]
+                self.assertEqual(len(names), len(set(names)), where)
+                methods |= set(names)
+            if isinstance(node, ast.Attribute) and isinstance(node.ctx, ast.Store):
+                values.add(node.attr)
+        self.assertEqual(methods & values, set())
+        for kind in (str, int, list, dict, set, bytes, tuple):
+            self.assertEqual((methods - DOUBLE | values) & set(dir(kind)), set(), kind)
+
+    def test_no_list_or_dict_of_a_top_holds_another_and_none_is_changed(self):
+        for name, text in sources().items():
+            tree = ast.parse(text)
+            held = {}
+            for row in tree.body:
+                if isinstance(row, ast.Assign) and isinstance(row.value, (ast.List, ast.Dict)):
+                    held[row.targets[0].id] = row.value
+            for value in held.values():
+                inner = [node for node in ast.walk(value) if isinstance(node, (ast.List, ast.Dict))]
+                self.assertEqual(inner, [value], name)
+            for node in ast.walk(tree):
+                if isinstance(node, ast.Subscript) and isinstance(node.value, ast.Name) and node.value.id in held:
+                    self.assertIsInstance(node.ctx, ast.Load, f"{name}:{node.lineno}")
+                if isinstance(node, ast.Attribute) and isinstance(node.value, ast.Name) and node.value.id in held:
+                    self.assertIn(node.attr, ("get", "items", "keys", "values"), f"{name}:{node.lineno}")
+
 
 if __name__ == "__main__":
     unittest.main()
